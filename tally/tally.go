@@ -1,0 +1,72 @@
+// Package tally: measurements, journaled, summed up by windows, and sent on just once: see DOC.md.
+package tally
+
+import (
+	"tally/api"
+	"tally/disk"
+	"tally/sample"
+	"tally/sketch"
+)
+
+// Daemon takes datagrams, and tells windows.
+type Daemon struct{}
+
+// Sink takes messages.
+type Sink struct{}
+
+// Check tells whether there is a configuration (P4).
+func Check(c api.Config) api.Errno {
+	if within(c.Width, 1, 1000) && within(c.Series, 1, 32) && within(c.Sets, 1, 16) &&
+		within(c.Buckets, 2, 64) && within(c.Shards, 1, 16) && within(c.Segment, 64, 4096) {
+		return api.OK
+	}
+	return api.ErrConfig
+}
+
+// within tells whether n is from least to most.
+func within(n, least, most int) bool { return n >= least && n <= most }
+
+// Parse tells a line's plain form (P4).
+func Parse(line string) (string, api.Errno) {
+	s, ok := sample.Read(line)
+	if !ok {
+		return "", api.ErrLine
+	}
+	return s.Plain(), api.OK
+}
+
+// Bucket tells a value's bucket, and what it stands for (P4).
+func Bucket(v int) (int, int) { return sketch.Bucket(v) }
+
+// Sum tells the text of a window (P5).
+func Sum(c api.Config, window int, datagrams []string) (string, api.Errno) { return "", api.OK }
+
+// Start makes a daemon, which goes on with what is on the disk (P6).
+func Start(c api.Config, d *disk.Disk) (*Daemon, api.Errno) { return nil, api.OK }
+
+// Packet takes a datagram (P7).
+func (x *Daemon) Packet(s string) api.Errno { return api.OK }
+
+// Clock tells the time (P8).
+func (x *Daemon) Clock(t int) api.Errno { return api.OK }
+
+// Sync makes sure of what was taken (P7).
+func (x *Daemon) Sync() api.Errno { return api.OK }
+
+// Open tells the open window (P7).
+func (x *Daemon) Open() (int, int, string) { return 0, 0, "" }
+
+// Due tells the windows that are due (P8).
+func (x *Daemon) Due() []api.Message { return nil }
+
+// Ack tells that a window's text has come (P8).
+func (x *Daemon) Ack(window int) api.Errno { return api.OK }
+
+// NewSink makes a sink (P12).
+func NewSink() *Sink { return nil }
+
+// Take takes a message (P12).
+func (k *Sink) Take(m api.Message) api.Errno { return api.OK }
+
+// Taken tells what was taken (P12).
+func (k *Sink) Taken() []api.Message { return nil }
