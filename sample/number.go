@@ -5,10 +5,12 @@ import (
 	"strings"
 )
 
+// Whole is 1 in thousandths, and the rate where there is none.
+const Whole = 1000
+
 const (
-	whole       = 1000 // thousandths of 1, and the rate where there is none
-	mostDigits  = 6    // ahead of a number's point
-	mostDecimal = 3    // behind it
+	mostDigits  = 6 // ahead of a number's point
+	mostDecimal = 3 // behind it
 )
 
 // readNumber reads a number without a sign, in thousandths; false: it is none.
@@ -24,13 +26,13 @@ func readNumber(text string) (int, bool) {
 	if !ok {
 		return 0, false
 	}
-	return digitsValue(ahead)*whole + part, true
+	return digitsValue(ahead)*Whole + part, true
 }
 
 // readRate reads a rate in thousandths; false: it is none.
 func readRate(text string) (int, bool) {
 	if text == "1" {
-		return whole, true
+		return Whole, true
 	}
 	behind, ok := strings.CutPrefix(text, "0.")
 	if !ok {
@@ -63,11 +65,11 @@ func writeNumber(n int) string {
 	if n < 0 {
 		sign, n = "-", -n
 	}
-	text := sign + strconv.Itoa(n/whole)
-	if n%whole == 0 {
+	text := sign + strconv.Itoa(n/Whole)
+	if n%Whole == 0 {
 		return text
 	}
 	// The 1 ahead of the thousandths keeps their zeros; it is cut off again.
-	decimals := strconv.Itoa(whole + n%whole)[1:]
+	decimals := strconv.Itoa(Whole + n%Whole)[1:]
 	return text + "." + strings.TrimRight(decimals, "0")
 }

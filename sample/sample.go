@@ -1,4 +1,4 @@
-// Package sample reads lines of measurements, and writes them in their plain form.
+// Package sample reads lines of measurements, writes them in their plain form, and tells their series.
 package sample
 
 import (
@@ -43,7 +43,7 @@ func Read(line string) (Sample, bool) {
 		return Sample{}, false
 	}
 	kind, rest, more := strings.Cut(rest, "|")
-	s := Sample{Name: name, Rate: whole}
+	s := Sample{Name: name, Rate: Whole}
 	if !s.readValue(Kind(kind), value) {
 		return Sample{}, false
 	}
@@ -126,10 +126,15 @@ func (s *Sample) readTags(text string) bool {
 	return true
 }
 
+// Key tells to which series the sample belongs.
+func (s Sample) Key() string {
+	return s.Name + "|" + string(s.Kind) + s.plainTags()
+}
+
 // Plain writes the sample's plain form.
 func (s Sample) Plain() string {
 	text := s.Name + ":" + s.plainValue() + "|" + string(s.Kind)
-	if s.Rate != whole {
+	if s.Rate != Whole {
 		text += "|@" + writeNumber(s.Rate)
 	}
 	return text + s.plainTags()

@@ -31,3 +31,19 @@ func TestReadNothingBesideFalse(t *testing.T) {
 		}
 	}
 }
+
+func TestKey(t *testing.T) {
+	for line, want := range map[string]string{
+		"a.b:012.50|c|@0.10|#z,b,z": "a.b|c|#b,z",
+		"c:1|c":                     "c|c",
+		"g:-7|g":                    "g|g",
+		"g:7|g|#_":                  "g|g|#_",
+		"s:word|s":                  "s|s",
+		"t:3|h|#a":                  "t|ms|#a",
+		"t:3|ms|@0.5":               "t|ms",
+	} {
+		if s, ok := sample.Read(line); !ok || s.Key() != want {
+			t.Errorf("the key of %q is %q, want %q", line, s.Key(), want)
+		}
+	}
+}

@@ -6,13 +6,11 @@ import (
 	"tally/disk"
 	"tally/sample"
 	"tally/sketch"
+	"tally/window"
 )
 
 // Daemon takes datagrams, and tells windows.
 type Daemon struct{}
-
-// Sink takes messages.
-type Sink struct{}
 
 // Check tells whether there is a configuration (P4).
 func Check(c api.Config) api.Errno {
@@ -39,7 +37,21 @@ func Parse(line string) (string, api.Errno) {
 func Bucket(v int) (int, int) { return sketch.Bucket(v) }
 
 // Sum tells the text of a window (P5).
-func Sum(c api.Config, window int, datagrams []string) (string, api.Errno) { return "", api.OK }
+func Sum(c api.Config, window int, datagrams []string) (string, api.Errno) {
+	if e := Check(c); e != api.OK {
+		return "", e
+	}
+	return summed(c, datagrams).Text(window), api.OK
+}
+
+// summed is the window that took these datagrams.
+func summed(c api.Config, datagrams []string) *window.Window {
+	w := window.New(c)
+	for _, datagram := range datagrams {
+		w.Take(datagram)
+	}
+	return w
+}
 
 // Start makes a daemon, which goes on with what is on the disk (P6).
 func Start(c api.Config, d *disk.Disk) (*Daemon, api.Errno) { return nil, api.OK }
@@ -61,12 +73,3 @@ func (x *Daemon) Due() []api.Message { return nil }
 
 // Ack tells that a window's text has come (P8).
 func (x *Daemon) Ack(window int) api.Errno { return api.OK }
-
-// NewSink makes a sink (P12).
-func NewSink() *Sink { return nil }
-
-// Take takes a message (P12).
-func (k *Sink) Take(m api.Message) api.Errno { return api.OK }
-
-// Taken tells what was taken (P12).
-func (k *Sink) Taken() []api.Message { return nil }
