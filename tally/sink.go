@@ -31,7 +31,12 @@ func (k *Sink) Take(m api.Message) api.Errno {
 
 // Taken tells what was taken (P12).
 func (k *Sink) Taken() []api.Message {
-	return slices.SortedFunc(maps.Values(k.taken), byWindow)
+	return rising(k.taken)
+}
+
+// rising are the messages by rising windows, in a new list.
+func rising(messages map[int]api.Message) []api.Message {
+	return slices.SortedFunc(maps.Values(messages), byWindow)
 }
 
 // byWindow orders messages by rising windows.

@@ -3,14 +3,10 @@ package tally
 
 import (
 	"tally/api"
-	"tally/disk"
 	"tally/sample"
 	"tally/sketch"
 	"tally/window"
 )
-
-// Daemon takes datagrams, and tells windows.
-type Daemon struct{}
 
 // Check tells whether there is a configuration (P4).
 func Check(c api.Config) api.Errno {
@@ -52,24 +48,3 @@ func summed(c api.Config, datagrams []string) *window.Window {
 	}
 	return w
 }
-
-// Start makes a daemon, which goes on with what is on the disk (P6).
-func Start(c api.Config, d *disk.Disk) (*Daemon, api.Errno) { return nil, api.OK }
-
-// Packet takes a datagram (P7).
-func (x *Daemon) Packet(s string) api.Errno { return api.OK }
-
-// Clock tells the time (P8).
-func (x *Daemon) Clock(t int) api.Errno { return api.OK }
-
-// Sync makes sure of what was taken (P7).
-func (x *Daemon) Sync() api.Errno { return api.OK }
-
-// Open tells the open window (P7).
-func (x *Daemon) Open() (int, int, string) { return 0, 0, "" }
-
-// Due tells the windows that are due (P8).
-func (x *Daemon) Due() []api.Message { return nil }
-
-// Ack tells that a window's text has come (P8).
-func (x *Daemon) Ack(window int) api.Errno { return api.OK }
