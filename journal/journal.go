@@ -4,7 +4,8 @@
 // segment, which is done at once and for good; the window's other segments are of no use then. So that the greatest
 // window that was ever sealed stays known, the first segment behind a seal begins with its number.
 //
-// A segment is synced before another one begins: what is torn stands at the journal's end.
+// A segment is synced before another one begins: what is torn stands at the journal's end. What is not synced is kept
+// in memory too, so that it is not missing where the power fails, and is back, while the journal goes on.
 package journal
 
 import (
@@ -21,8 +22,8 @@ type Journal struct {
 	most     int           // bytes behind which a segment is left for a new one
 	sealed   map[int][]int // the segments of each sealed window, rising
 	open     []int         // the segments behind the last seal, rising
-	size     int           // bytes of the last one of these
-	unsynced bool          // whether it has some that are not synced
+	synced   int           // how many bytes of the last one of these are synced
+	unsynced string        // what it has behind them
 	next     int           // the number of the next new segment
 	greatest int           // the greatest window that was ever sealed
 }
@@ -42,7 +43,7 @@ func Open(d *disk.Disk, most int) (*Journal, Found, error) {
 		most:     most,
 		sealed:   map[int][]int{},
 		open:     h.Open.segments,
-		size:     h.end.size,
+		synced:   h.end.size,
 		next:     h.end.segment + 1,
 		greatest: h.greatest,
 	}
@@ -108,7 +109,7 @@ func (j *Journal) Write(window int, text string) error {
 	switch {
 	case len(j.open) == 0:
 		return j.begin(j.head() + written)
-	case j.size < j.most:
+	case j.synced+len(j.unsynced) < j.most:
 		return j.add(written)
 	}
 	if err := j.Sync(); err != nil {
@@ -119,14 +120,17 @@ func (j *Journal) Write(window int, text string) error {
 
 // Sync makes sure of all that was written.
 func (j *Journal) Sync() error {
-	if !j.unsynced {
+	if len(j.open) == 0 {
 		return nil
 	}
-	last := j.open[len(j.open)-1]
-	if e := j.disk.Sync(last); e != api.OK {
-		return during(about("syncing", last), e)
+	if err := j.mend(); err != nil {
+		return err
 	}
-	j.unsynced = false
+	if e := j.disk.Sync(j.last()); e != api.OK {
+		return during(about("syncing", j.last()), e)
+	}
+	j.synced += len(j.unsynced)
+	j.unsynced = ""
 	return nil
 }
 
@@ -186,17 +190,35 @@ func (j *Journal) begin(text string) error {
 	}
 	j.open = append(j.open, j.next)
 	j.next++
-	j.size, j.unsynced = len(text), true
+	j.synced, j.unsynced = 0, text
 	return nil
 }
 
 // add writes a text behind what the last segment has.
 func (j *Journal) add(text string) error {
-	last := j.open[len(j.open)-1]
-	if e := j.disk.Append(last, text); e != api.OK {
-		return during(about("writing to", last), e)
+	if err := j.mend(); err != nil {
+		return err
 	}
-	j.size += len(text)
-	j.unsynced = true
+	if e := j.disk.Append(j.last(), text); e != api.OK {
+		return during(about("writing to", j.last()), e)
+	}
+	j.unsynced += text
 	return nil
 }
+
+// mend writes again what the last segment has lost, if the power failed since: a record behind a torn one would never be found.
+func (j *Journal) mend() error {
+	text, e := j.disk.Read(j.last())
+	if e != api.OK {
+		return during(about("reading", j.last()), e)
+	}
+	// The bounds are for a segment that others have changed.
+	left := min(max(len(text)-j.synced, 0), len(j.unsynced))
+	if left == len(j.unsynced) {
+		return nil
+	}
+	return during(about("mending", j.last()), j.disk.Append(j.last(), j.unsynced[left:]))
+}
+
+// last is the last one of the segments behind the last seal; there must be one.
+func (j *Journal) last() int { return j.open[len(j.open)-1] }

@@ -215,6 +215,99 @@ func TestFailure(t *testing.T) {
 	}
 }
 
+// TestFailureTellsWhatWasDone: whatever the disk was asked, its error is found again, with what was being done.
+func TestFailureTellsWhatWasDone(t *testing.T) {
+	write := func(j *Journal) error { return j.Write(2, "c") }
+	two := []string{"d0:1:a\ns0:0:\n", "b0:0:\nd1:1:b\ns1:0:\n"}
+	for _, c := range []struct {
+		had        []string
+		left, room int
+		call       func(j *Journal) error // none: Open itself
+		doing      string
+		want       api.Errno
+	}{
+		{two, 0, -1, nil, "listing the segments", api.ErrDown},
+		{[]string{"d0:1:a\n", "d0:1:b\n", "b0:0:\n"}, 1, -1, nil, "deleting segment 1", api.ErrDown},
+		{[]string{"d0:1:a\n", "b0:0:\nd1:"}, 1, -1, nil, "truncating segment 1", api.ErrDown},
+		{[]string{"d0:1:a\nd0:"}, 1, 0, nil, "syncing segment 0", api.ErrDown},
+		{nil, 0, 0, write, "beginning segment 0", api.ErrDown},
+		{nil, 1, 6, write, "beginning segment 0", api.ErrFull},
+		{two, 0, -1, write, "beginning segment 2", api.ErrDown},
+		{[]string{"d2:1:a\n"}, 0, -1, write, "reading segment 0", api.ErrDown},
+		{[]string{"d2:1:a\n"}, 1, 13, write, "writing to segment 0", api.ErrFull},
+		{[]string{"d2:1:a\n"}, 0, -1, (*Journal).Sync, "reading segment 0", api.ErrDown},
+		{two, 0, -1, func(j *Journal) error { return j.Forget(0) }, "deleting segment 0", api.ErrDown},
+		{two, 0, -1, func(j *Journal) error { return j.Forget(1) }, "beginning segment 2", api.ErrDown},
+		{two, -1, 0, func(j *Journal) error { return j.Forget(1) }, "beginning segment 2", api.ErrFull},
+	} {
+		d := laidOut(c.had...)
+		var err error
+		if c.call == nil {
+			d.Limit(c.left, c.room)
+			_, _, err = Open(d, 64)
+		} else {
+			j, _ := opened(t, d, 64)
+			d.Limit(c.left, c.room)
+			err = c.call(j)
+		}
+		checkFailure(t, err, c.doing, c.want)
+	}
+}
+
+func checkFailure(t *testing.T, err error, doing string, want api.Errno) {
+	t.Helper()
+	var f *Failure
+	if !errors.As(err, &f) || f.Doing != doing || !errors.Is(err, want) {
+		t.Errorf("%v, want %s: %v", err, doing, want)
+	}
+}
+
+// TestMend: what the power took is written again, ahead of anything else.
+func TestMend(t *testing.T) {
+	for torn := range 9 {
+		d := disk.New()
+		j, _ := opened(t, d, 64)
+		done(t, j.Write(0, "a"))
+		done(t, j.Sync())
+		done(t, j.Write(0, "b"))
+		d.Crash(torn)
+		done(t, j.Write(0, "c"))
+		checkTexts(t, d, "d0:1:a\nd0:1:b\nd0:1:c\n")
+		d.Crash(torn)
+		done(t, j.Sync())
+		checkTexts(t, d, "d0:1:a\nd0:1:b\nd0:1:c\n")
+		done(t, j.Write(0, "d"))
+		d.Crash(min(torn, 6))
+		d.Limit(-1, 0)
+		checkFailure(t, j.Sync(), "mending segment 0", api.ErrFull)
+		d.Limit(-1, -1)
+		done(t, j.Seal(0))
+		d.Crash(0)
+		checkTexts(t, d, "d0:1:a\nd0:1:b\nd0:1:c\nd0:1:d\ns0:0:\n")
+		done(t, j.Write(1, "e"))
+		d.Crash(torn)
+		done(t, j.Forget(0))
+		checkTexts(t, d, "b0:0:\nd1:1:e\n")
+	}
+}
+
+// TestMendOthersWork: a segment that others have changed is not written twice, and no call panics.
+func TestMendOthersWork(t *testing.T) {
+	for n := range 15 {
+		d := disk.New()
+		j, _ := opened(t, d, 64)
+		done(t, j.Write(0, "a"))
+		done(t, j.Sync())
+		done(t, j.Write(0, "b"))
+		d.Truncate(0, n)
+		done(t, j.Sync())
+		d.Append(0, "more")
+		done(t, j.Write(0, "c"))
+		d.Delete(0)
+		checkFailure(t, j.Sync(), "reading segment 0", api.ErrSegment)
+	}
+}
+
 // TestOpenAnything: whatever a disk has, every call ends; what is left of it counts.
 func TestOpenAnything(t *testing.T) {
 	r := rand.New(rand.NewSource(7))

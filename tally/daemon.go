@@ -26,7 +26,7 @@ type openWindow struct {
 	sums   *window.Window // what they come to, in place of them
 }
 
-// Start makes a daemon, which goes on with what is on the disk (P6).
+// Start makes a daemon, which goes on with what is on the disk (P6, P10).
 func Start(c api.Config, d *disk.Disk) (*Daemon, api.Errno) {
 	if e := Check(c); e != api.OK {
 		return nil, e
@@ -95,7 +95,11 @@ func (x *Daemon) Sync() api.Errno {
 	if x.spent {
 		return api.ErrSpent
 	}
-	return x.answer(x.journal.Sync())
+	if err := x.journal.Sync(); err != nil {
+		// Too little room is no answer to a Sync: what the power took, and cannot be written again, is lost.
+		return x.spend()
+	}
+	return api.OK
 }
 
 // Open tells the open window (P7).
@@ -124,7 +128,7 @@ func (x *Daemon) Ack(window int) api.Errno {
 	return api.OK
 }
 
-// answer is what a call answers that came to this error.
+// answer is what a call answers that came to this error (P9).
 func (x *Daemon) answer(err error) api.Errno {
 	switch {
 	case err == nil:
@@ -133,6 +137,11 @@ func (x *Daemon) answer(err error) api.Errno {
 		return api.ErrFull
 	}
 	// Too little room leaves the disk as it was; behind any other error it is not known any more what it has.
+	return x.spend()
+}
+
+// spend is the end of the daemon, and the answer of the call with which it comes.
+func (x *Daemon) spend() api.Errno {
 	x.spent = true
 	return api.ErrDisk
 }
